@@ -9,6 +9,7 @@ import (
 	"testing"
 
 	"avow/api"
+	"avow/farkas"
 )
 
 const enough = 100000
@@ -129,14 +130,14 @@ func checkSat(t testing.TB, l []api.Lin, a answer) {
 	}
 }
 
-// checkUnsat holds the refutation of an Unsat against chapter 10's words.
+// checkUnsat holds the refutation of an Unsat against chapter 10's words, and against the layer that has them.
 func checkUnsat(t testing.TB, l []api.Lin, a answer) {
 	t.Helper()
 	if len(a.at) > 0 {
 		t.Fatalf("P9.1: %v: Unsat, and numbers: %v", l, a.at)
 	}
-	if !refutes(l, a.f, 200) {
-		t.Fatalf("P9.1: %v: not refuted by %.1000v", l, a.f)
+	if e := farkas.Check(l, a.f); e != api.OK || !refutes(l, a.f, 200) {
+		t.Fatalf("P9.1: %v: not refuted by %.1000v: %v", l, a.f, e)
 	}
 	if !isTidy(a.f) {
 		t.Fatalf("rule 4: %v: a field that isn't named: %.1000v", l, a.f)
